@@ -1,0 +1,1 @@
+"""Keyspans: services that spread records over lanes by keys."""

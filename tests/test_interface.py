@@ -1,0 +1,91 @@
+"""[19]: where the names of the interface are defined, and which arguments they take."""
+
+import ast
+import importlib
+import inspect
+import pathlib
+import unittest
+
+PACKAGE = pathlib.Path(__file__).resolve().parent.parent / "keyspans"
+
+FUNCTIONS = {
+    "keys": {"is_field": "(thing)", "is_part": "(thing)", "field_of": "(text)", "parts_of": "(text)"},
+    "stages": {},
+    "lanes": {
+        "is_row": "(keys, thing)", "row_of": "(keys, records)", "value": "(keys, record, field)",
+        "lanes": "(stage, row)", "passes": "(stage, row, out)", "crossed": "(stage, row, out)",
+        "pour": "(stage, row, turns)", "turns_of": "(stage, row, out)", "timed": "(stage, row, arrivals, costs)",
+        "costs_of": "(stage, row, out)", "how_many": "(stage, row)", "nth": "(stage, row, k)",
+        "place": "(stage, row, out)", "next_out": "(stage, row, out)", "outs": "(stage, row)",
+        "exchanges": "(row, out)", "least_stages": "(keys, row, out)",
+    },
+}
+CLASSES = {
+    ("keys", "Keys"): {
+        "made": "(names, tells=())",
+        "methods": {"tells": "(self, one, other)", "told": "(self, name)", "of": "(text)"},
+        "properties": ("names", "pairs", "text"),
+        "signs": ("__init__", "__contains__", "__len__", "__eq__"),
+    },
+    ("stages", "Stage"): {
+        "made": "(keys, fields)",
+        "methods": {"lane": "(self, record)", "same": "(self, one, other)", "of": "(keys, text)"},
+        "properties": ("schema", "fields", "text"),
+        "signs": ("__init__", "__getitem__", "__contains__", "__len__", "__eq__", "__le__", "__lt__",
+                  "__or__", "__and__", "__xor__"),
+    },
+}
+
+
+def module(name):
+    return importlib.import_module("keyspans." + name)
+
+
+def tree(name):
+    return ast.parse((PACKAGE / (name + ".py")).read_text())
+
+
+class InterfaceTest(unittest.TestCase):
+
+    def test_functions_are_defined_in_their_files(self):
+        for name, functions in FUNCTIONS.items():
+            defined = [node.name for node in tree(name).body if isinstance(node, ast.FunctionDef)]
+            for function, arguments in functions.items():
+                with self.subTest(function):
+                    self.assertIn(function, defined)
+                    self.assertEqual(str(inspect.signature(getattr(module(name), function))), arguments)
+
+    def test_classes_define_their_methods_themselves(self):
+        for (name, title), listed in CLASSES.items():
+            made = getattr(module(name), title)
+            node, = [node for node in tree(name).body if isinstance(node, ast.ClassDef) and node.name == title]
+            defined = [inner.name for inner in node.body if isinstance(inner, ast.FunctionDef)]
+            self.assertEqual(str(inspect.signature(made)), listed["made"])
+            for method in [*listed["methods"], *listed["properties"], *listed["signs"]]:
+                with self.subTest((title, method)):
+                    self.assertIn(method, defined)
+            for method, arguments in listed["methods"].items():
+                with self.subTest((title, method)):
+                    self.assertEqual(str(inspect.signature(getattr(made, method))), arguments)
+
+    def test_properties_have_no_setters(self):
+        keys = module("keys").Keys(("a",))
+        stage = module("stages").Stage(keys, ("a",))
+        for thing, listed in zip((keys, stage), CLASSES.values()):
+            for name in listed["properties"]:
+                with self.subTest(name):
+                    held = getattr(thing, name)
+                    with self.assertRaises(AttributeError):
+                        setattr(thing, name, held)
+                    self.assertEqual(getattr(thing, name), held)
+
+    def test_of_is_static(self):
+        self.assertIsInstance(vars(module("keys").Keys)["of"], staticmethod)
+        self.assertIsInstance(vars(module("stages").Stage)["of"], staticmethod)
+
+    def test_outs_is_a_generator(self):
+        self.assertTrue(inspect.isgeneratorfunction(module("lanes").outs))
+
+
+if __name__ == "__main__":
+    unittest.main()
