@@ -1,11 +1,9 @@
 """Keys: the names of the values of records, which name tells which, and FIELDs."""
 
 from keyspans.errors import BadField, BadLine, NoName, Ringed
+from keyspans.primes import is_prime_power, prime_powers
 
 _DIGITS = "0123456789"
-
-# The square root of the greatest number that stands behind a slash.
-_ROOT = 1000
 
 
 def is_name(thing):
@@ -30,7 +28,7 @@ def is_part(thing):
     if not is_field(thing):
         return False
     _, m = field_of(thing)
-    return m == 0 or _is_prime_power(m)
+    return m == 0 or is_prime_power(m)
 
 
 def field_of(text):
@@ -53,7 +51,12 @@ def parts_of(text):
     name, m = field_of(text)
     if m == 0:
         return (name,)
-    return tuple(sorted(set([field_text(name, power) for power in _prime_powers(m)])))
+    return tuple(sorted(set([field_text(name, power) for power in prime_powers([m])])))
+
+
+def all_names(keys):
+    """All names of values of records, the number of the record ahead of them."""
+    return ("#",) + keys.names
 
 
 def words_of(line):
@@ -176,28 +179,3 @@ def _digits_of(number):
         number, piece = divmod(number, 10 ** 60)
         digits = str(piece).zfill(60) + digits
     return digits.lstrip("0")
-
-
-def _is_prime_power(m):
-    # Only a prime within the bound has no factor up to the root; above the bound nothing is promised.
-    for factor in range(2, _ROOT + 1):
-        if m % factor == 0:
-            while m % factor == 0:
-                m = m // factor
-            return m == 1
-    return True
-
-
-def _prime_powers(m):
-    # The powers of primes above 1 that divide m.
-    powers = []
-    factor = 2
-    while m > 1:
-        power = 1
-        while m % factor == 0:
-            m = m // factor
-            power = power * factor
-            powers.append(power)
-        # A rest without a factor up to its root is a prime.
-        factor = m if factor * factor > m else factor + 1
-    return powers

@@ -1,9 +1,10 @@
 """Lanes: what one Stage lets out of a row of records."""
 
 from keyspans.errors import BadTurns, Doubled, NoName, NoPlace, Unlawful
-from keyspans.keys import field_of
+from keyspans.keys import all_names, field_of
 from keyspans.stages import Stage
 from keyspans.turns import first_turns, how_many_turns, next_turns, nth_turns, place_of_turns
+from keyspans.values import is_int
 
 
 def is_row(keys, thing):
@@ -158,7 +159,7 @@ def exchanges(row, out):
 def least_stages(keys, row, out):
     """The least Stages of whole FIELDs that let out come from row, in the order of their texts."""
     letting = {}
-    for fields in _choices(("#",) + keys.names):
+    for fields in _choices(all_names(keys)):
         stage = Stage(keys, fields)
         if passes(stage, row, out):
             letting[stage.text] = stage
@@ -167,19 +168,15 @@ def least_stages(keys, row, out):
     return [letting[text] for text in sorted(set(least))]
 
 
-def _is_int(thing):
-    return isinstance(thing, int) and not isinstance(thing, bool)
-
-
 def _is_record(keys, thing):
     if not isinstance(thing, tuple) or len(thing) != 2:
         return False
     number, values = thing
-    if not _is_int(number) or number < 0:
+    if not is_int(number) or number < 0:
         return False
     if not isinstance(values, tuple) or len(values) != len(keys):
         return False
-    return all([_is_int(worth) for worth in values])
+    return all([is_int(worth) for worth in values])
 
 
 def _tuples(row):

@@ -3,7 +3,7 @@
 from math import gcd, lcm
 
 from keyspans.errors import MixedKeys, NoName
-from keyspans.keys import field_of, field_text, is_field, words_of
+from keyspans.keys import all_names, field_of, field_text, is_field, words_of
 
 
 class Stage:
@@ -66,7 +66,7 @@ class Stage:
     def __le__(self, other):
         if not isinstance(other, Stage):
             return NotImplemented
-        _check_same_keys(self, other)
+        check_same_keys(self, other)
         return all([_divides(m, other[name]) for name, m in self._numbers.items()])
 
     def __lt__(self, other):
@@ -77,13 +77,13 @@ class Stage:
     def __or__(self, other):
         if not isinstance(other, Stage):
             return NotImplemented
-        _check_same_keys(self, other)
+        check_same_keys(self, other)
         return _numbered(self._schema, [(name, lcm(m, other[name])) for name, m in self._numbers.items()])
 
     def __and__(self, other):
         if not isinstance(other, Stage):
             return NotImplemented
-        _check_same_keys(self, other)
+        check_same_keys(self, other)
         return _numbered(self._schema, [(name, gcd(m, other[name])) for name, m in self._numbers.items()])
 
     def __xor__(self, other):
@@ -104,15 +104,11 @@ class Stage:
         return Stage(keys, words)
 
 
-def _all_names(keys):
-    return ("#",) + keys.names
-
-
 def _joined(keys, fields):
     # All FIELDs are read ahead of the names: a text that is no FIELD is told first.
     pairs = [field_of(field) for field in fields]
     numbers = {}
-    for name in _all_names(keys):
+    for name in all_names(keys):
         numbers[name] = 1
     for name, m in pairs:
         if name not in numbers:
@@ -136,7 +132,8 @@ def _divides(m, number):
     return number == 0 or (m != 0 and number % m == 0)
 
 
-def _check_same_keys(one, other):
+def check_same_keys(one, other):
+    """Raises MixedKeys unless the Keys of two objects are equal."""
     if one.schema != other.schema:
         raise MixedKeys()
 
@@ -144,7 +141,7 @@ def _check_same_keys(one, other):
 def _parted(one, other):
     # Two RECORDs that one has in one lane and other has not; other <= one does not hold.
     keys = one.schema
-    apart = [name for name in _all_names(keys) if not _divides(other[name], one[name])][0]
+    apart = [name for name in all_names(keys) if not _divides(other[name], one[name])][0]
     moved = [name for name in keys.names if name == apart or keys.tells(name, apart)]
     values = tuple([one[name] if name in moved else 0 for name in keys.names])
     return (0, (0,) * len(keys)), (one["#"], values)

@@ -74,9 +74,11 @@ def plain_outs(keys, stage, row):
 
 
 def things():
-    """Values of all kinds that are neither FIELD, PART nor ROW for Keys of three names."""
+    """Values of all kinds that are neither FIELD, PART, ROW, RUN nor ring, and no Parting, for Keys of three names."""
     from keyspans.errors import MixedKeys, NoName
     from keyspans.keys import Keys
+    from keyspans.partings import Parting
+    from keyspans.pipelines import Pipeline
     from keyspans.stages import Stage
     keys = Keys(("a", "b", "c"))
     deep = 7
@@ -87,4 +89,101 @@ def things():
         "", " ", "-", "1", "abc def", [], [()], [[]], [1], ["a"], ("a",), ("a", 0), (("a", 0),), ((),), (None,), (True,),
         ((1, 2),), ((1, (2, 3)), 4), {}.get("x"), deep, ([],), ((1, (0, 0, 0)), []), ((1, (0, 0, 0)), None),
         keys, Stage(keys, ("a",)), (keys,), (Stage(keys, ()),), [keys], NoName("a"), (MixedKeys(),),
+        Pipeline(keys), (Pipeline(keys, (("a",),)),), (Parting(((),), ()),), [[((1, (0, 0, 0)),)], [((1, (0, 0, 0)),)]],
     ]
+
+
+def numbers(row):
+    return tuple(record[0] for record in row)
+
+
+def plain_has(stage, part):
+    """Whether a Stage has a PART, by its numbers."""
+    name, _, m = part.partition("/")
+    return plain_divides(int(m or 0), stage[name])
+
+
+def plain_span(p, part):
+    places = [place for place, stage in enumerate(p.stages) if plain_has(stage, part)]
+    return (places[0], places[-1]) if places else None
+
+
+def plain_ahead(p, one, other):
+    first, second = plain_span(p, one), plain_span(p, other)
+    return bool(first and second and first[1] < second[0])
+
+
+def plain_parts(p):
+    """The PARTs that a Pipeline brings, found by trying one factor behind the other."""
+    parts = set()
+    for name in all_names(p.schema):
+        for m in {stage[name] for stage in p.stages}:
+            parts.update([name] if m == 0 else [f"{name}/{power}" for power in plain_powers(m)])
+    return tuple(sorted(parts))
+
+
+def plain_powers(m):
+    """The powers of primes that divide m, which is not 0."""
+    powers = []
+    factor = 2
+    while m > 1:
+        power = 1
+        while m % factor == 0:
+            m //= factor
+            power *= factor
+            powers.append(power)
+        factor = factor + 1 if factor * factor <= m else m
+    return powers
+
+
+def plain_within(p, q):
+    """p <= q, by the PARTs of both and one that neither brings."""
+    looked_at = {*plain_parts(p), *plain_parts(q), *[name + "/7" for name in all_names(p.schema)]}
+    mine = [part for part in sorted(looked_at) if plain_span(p, part)]
+    return all(plain_span(q, part) for part in mine) and all(
+        plain_ahead(p, one, other) for one in mine for other in mine if plain_ahead(q, one, other))
+
+
+def plain_reached(p, row):
+    """All orders behind each stage, by the definition: each lane keeps the order that it had ahead of the stage."""
+    entries = [(numbers(row),)]
+    for stage in p.stages:
+        lane_of = {record[0]: plain_lane(p.schema, stage, record) for record in row}
+        ahead = [lanes_of_order(lane_of, order) for order in entries[-1]]
+        entries.append(tuple(
+            order for order in permutations(sorted(lane_of)) if lanes_of_order(lane_of, order) in ahead))
+    return tuple(entries)
+
+
+def lanes_of_order(lane_of, order):
+    lanes = {}
+    for number in order:
+        lanes.setdefault(lane_of[number], []).append(number)
+    return lanes
+
+
+def pipelines(keys, choices, most):
+    """All Pipelines of at most so many stages, each stage with one of these texts."""
+    from itertools import product
+    from keyspans.pipelines import Pipeline
+    return [
+        Pipeline(keys, [text.split() for text in texts])
+        for many in range(most + 1) for texts in product(choices, repeat=many)]
+
+
+def random_row(random, keys, many, values):
+    """A lawful row of at most so many records."""
+    from keyspans.lanes import is_row
+    row = ()
+    for _ in range(20 * many):
+        if len(row) < many:
+            more = row + ((random.randrange(2 * many + 3), tuple(random.choice(values) for _ in keys.names)),)
+            row = more if is_row(keys, more) else row
+    return row
+
+
+def random_pipeline(random, keys, fields, most):
+    """A Pipeline of at most so many stages, with some of these FIELDs in each."""
+    from keyspans.pipelines import Pipeline
+    many = random.randrange(most + 1)
+    return Pipeline(keys, [random.sample(fields, random.choice((0, 1, 1, 2, 2))) for _ in range(many)])

@@ -9,6 +9,7 @@ from keyspans.lanes import (
     costs_of, crossed, exchanges, how_many, is_row, lanes, least_stages, next_out, nth, outs, passes, place, pour, row_of,
     timed, turns_of, value)
 from keyspans.stages import Stage
+from tests.calls import CallsChecks, inner_lists, kinds, with_lists
 from tests.helpers import check_raises
 
 KEYS = Keys(("city", "shop", "user"), (("shop", "city"),))
@@ -52,52 +53,23 @@ CALLS = (
 )
 
 
-def with_lists(thing, depth=99):
-    """The same with lists for tuples, down to a depth."""
-    if isinstance(thing, tuple) and depth > 0:
-        return [with_lists(member, depth - 1) for member in thing]
-    return thing
+class CallsTest(CallsChecks, unittest.TestCase):
 
+    calls = CALLS
+    taking_things = (is_field, is_part, is_row)
 
-def inner_lists(thing):
-    """The same with lists for the tuples that stand in tuples, not for the outermost."""
-    return tuple(with_lists(member) for member in thing) if isinstance(thing, tuple) else thing
-
-
-def kinds(thing):
-    """The kinds of values that a result is built from."""
-    if isinstance(thing, (list, tuple)):
-        return [type(thing), *[kinds(member) for member in thing]]
-    return type(thing)
-
-
-class CallsTest(unittest.TestCase):
-
-    def test_by_name_and_by_position(self):
-        for call, named in CALLS:
-            with self.subTest(call):
-                self.assertEqual(call(**named), call(*named.values()))
-        self.assertEqual(list(outs(stage=STAGE, row=ROW)), list(outs(STAGE, ROW)))
-
-    def test_again(self):
-        for call, named in CALLS:
-            with self.subTest(call):
-                self.assertEqual(call(**named), call(**named))
-        self.assertEqual(list(outs(STAGE, ROW)), list(outs(STAGE, ROW)))
-
-    def test_lists_for_tuples_at_each_depth(self):
-        for call, named in CALLS:
-            if call in (is_field, is_part, is_row):
-                continue
-            expected = call(**named)
-            changes = [lambda worth, depth=depth: with_lists(worth, depth) for depth in (1, 2, 3)] + [inner_lists]
-            for changed in changes:
-                with self.subTest(call):
-                    given = call(**{name: changed(worth) for name, worth in named.items()})
-                    self.assertEqual(given, expected)
-                    self.assertEqual(kinds(given), kinds(expected))
+    def test_outs(self):
+        expected = list(outs(STAGE, ROW))
+        self.assertEqual(list(outs(stage=STAGE, row=ROW)), expected)
+        self.assertEqual(list(outs(STAGE, ROW)), expected)
         for changed in (with_lists, inner_lists):
-            self.assertEqual(list(outs(STAGE, changed(ROW))), list(outs(STAGE, ROW)))
+            self.assertEqual(list(outs(STAGE, changed(ROW))), expected)
+        row = with_lists(ROW)
+        list(outs(STAGE, row))
+        self.assertEqual(row, with_lists(ROW))
+
+    def test_lists_for_some_of_the_arguments(self):
+        for changed in (with_lists, inner_lists):
             self.assertEqual(passes(STAGE, ROW, changed(OUT)), True)
             self.assertEqual(passes(STAGE, changed(ROW), OUT), True)
             self.assertEqual(passes(STAGE, changed(ROW), BARRED), False)
@@ -110,18 +82,6 @@ class CallsTest(unittest.TestCase):
         self.assertIs(is_row(KEYS, inner_lists(ROW)), False)
         self.assertIs(is_row(KEYS, ROW[:3] + ((4, [1, 10, 9]),)), False)
         self.assertIs(is_row(KEYS, ROW[:3] + ([4, (1, 10, 9)],)), False)
-
-    def test_arguments_stay_as_they_are(self):
-        for call, named in CALLS:
-            given = {name: with_lists(worth) for name, worth in named.items()}
-            plain = {name: worth for name, worth in given.items() if isinstance(worth, list)}
-            before = copy.deepcopy(plain)
-            call(**given)
-            with self.subTest(call):
-                self.assertEqual(plain, before)
-        row = with_lists(ROW)
-        list(outs(STAGE, row))
-        self.assertEqual(row, with_lists(ROW))
 
     def test_arguments_of_calls_that_raise_stay_as_they_are(self):
         for error, held, records in (

@@ -19,6 +19,17 @@ FUNCTIONS = {
         "place": "(stage, row, out)", "next_out": "(stage, row, out)", "outs": "(stage, row)",
         "exchanges": "(row, out)", "least_stages": "(keys, row, out)",
     },
+    "pipelines": {"built": "(keys, names, pairs)"},
+    "carry": {
+        "is_run": "(p, thing)", "why_no_run": "(p, rows)", "run_of": "(p, row, turns)", "turns_of_run": "(p, run)",
+        "only": "(run, numbers)", "filled": "(p)", "laid": "(p, q)", "carried": "(p, q, run)",
+        "together": "(p, part, runs, row, out)",
+    },
+    "partings": {"parting": "(p, q)", "is_parting": "(p, q, thing)", "parted_on": "(p, q, row)"},
+    "given": {
+        "may_come": "(p, row, front)", "why_never": "(p, row, front)", "is_ring": "(p, row, front, thing)",
+        "next_numbers": "(p, row, front)", "reached": "(p, row)", "all_outs": "(p, row)",
+    },
 }
 CLASSES = {
     ("keys", "Keys"): {
@@ -33,6 +44,21 @@ CLASSES = {
         "properties": ("schema", "fields", "text"),
         "signs": ("__init__", "__getitem__", "__contains__", "__len__", "__eq__", "__le__", "__lt__",
                   "__or__", "__and__", "__xor__"),
+    },
+    ("pipelines", "Pipeline"): {
+        "made": "(keys, stages=())",
+        "methods": {
+            "of": "(keys, text)", "span": "(self, part)", "ahead": "(self, one, other)", "open_at": "(self, place)",
+            "__call__": "(self, row, turns)"},
+        "properties": ("schema", "stages", "text", "parts", "plain"),
+        "signs": ("__init__", "__len__", "__bool__", "__getitem__", "__contains__", "__rshift__", "__pow__", "__invert__",
+                  "__le__", "__lt__", "__eq__", "__call__"),
+    },
+    ("partings", "Parting"): {
+        "made": "(run, parts)",
+        "methods": {"cut": "(self, q)"},
+        "properties": ("run", "parts", "row", "out"),
+        "signs": ("__init__", "__len__", "__eq__"),
     },
 }
 
@@ -71,7 +97,9 @@ class InterfaceTest(unittest.TestCase):
     def test_properties_have_no_setters(self):
         keys = module("keys").Keys(("a",))
         stage = module("stages").Stage(keys, ("a",))
-        for thing, listed in zip((keys, stage), CLASSES.values()):
+        pipeline = module("pipelines").Pipeline(keys, (stage,))
+        parting = module("partings").Parting(((), ()), ())
+        for thing, listed in zip((keys, stage, pipeline, parting), CLASSES.values()):
             for name in listed["properties"]:
                 with self.subTest(name):
                     held = getattr(thing, name)
@@ -82,6 +110,7 @@ class InterfaceTest(unittest.TestCase):
     def test_of_is_static(self):
         self.assertIsInstance(vars(module("keys").Keys)["of"], staticmethod)
         self.assertIsInstance(vars(module("stages").Stage)["of"], staticmethod)
+        self.assertIsInstance(vars(module("pipelines").Pipeline)["of"], staticmethod)
 
     def test_outs_is_a_generator(self):
         self.assertTrue(inspect.isgeneratorfunction(module("lanes").outs))

@@ -2,6 +2,7 @@
 
 import unittest
 from itertools import product
+from math import prod
 
 from keyspans.errors import BadField, BadLine, NoName, Ringed
 from keyspans.keys import Keys, field_of, is_field, is_part, parts_of
@@ -90,6 +91,17 @@ class FieldsTest(unittest.TestCase):
         field, = Stage(Keys(("a",)), ("a/999983", "a/999979", "a/8")).fields
         self.assertEqual(field, f"a/{999983 * 999979 * 8}")
         self.assertEqual(parts_of(field), ("a/2", "a/4", "a/8", "a/999979", "a/999983"))
+        self.assertIs(is_part(field), False)
+        self.assertIs(is_part(f"a/{1009 * 1013}"), False)
+        self.assertIs(is_part(f"a/{999979 * 999983}"), False)
+        for primes in ((1009, 1013), (1009, 999983), (1009, 1013, 1019, 1021), (2, 3, 1009, 500009, 999979, 999983)):
+            self.assertEqual(parts_of(f"a/{prod(primes)}"), tuple(sorted(f"a/{prime}" for prime in primes)))
+
+    def test_parts_of_numbers_somewhat_beyond_the_bound(self):
+        for text in ("a/1000003", "a/1018081", "a/1062961", "a/1999993", f"a/{1000003 * 1000033}", f"a/{1000003 ** 2}"):
+            m = int(text[2:])
+            primes = [prime for prime in (1009, 1031, 1000003, 1000033, 1999993) if m % prime == 0]
+            self.assertEqual(parts_of(text), tuple(sorted({f"a/{prime}" for prime in primes} | ({text} if len(primes) == 1 else set()))))
 
 
 class KeysTest(unittest.TestCase):

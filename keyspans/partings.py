@@ -1,0 +1,156 @@
+"""Partings: rows that show that one Pipeline lets out what another one does not."""
+
+from math import lcm
+
+from keyspans.carry import is_run
+from keyspans.errors import NoPart
+from keyspans.given import all_outs, run_to_order
+from keyspans.keys import all_names, field_of
+from keyspans.primes import least_factor
+from keyspans.spans import parts_apart, span_in
+from keyspans.stages import check_same_keys
+from keyspans.values import numbers_of, tupled
+
+# Longer rows are not looked through.
+_MOST = 5
+
+
+class Parting:
+    """A RUN of one Pipeline whose last row never comes out of another, and the PARTs that the two differ by."""
+
+    def __init__(self, run, parts):
+        self._run = tupled(run)
+        self._parts = tupled(parts)
+
+    @property
+    def run(self):
+        """The RUN."""
+        return self._run
+
+    @property
+    def parts(self):
+        """The PARTs, at most two."""
+        return self._parts
+
+    @property
+    def row(self):
+        """The first ROW of the RUN."""
+        return self._run[0]
+
+    @property
+    def out(self):
+        """The last ROW of the RUN."""
+        return self._run[-1]
+
+    def cut(self, q):
+        """The place of the last stage of q that has the first PART, None if there are fewer than two."""
+        if len(self._parts) < 2:
+            return None
+        span = span_in(q.stages, self._parts[0])
+        if span is None:
+            raise NoPart(self._parts[0])
+        return span[1]
+
+    def __len__(self):
+        return len(self._run[0])
+
+    def __eq__(self, other):
+        return isinstance(other, Parting) and self._run == other._run and self._parts == other._parts
+
+
+def parting(p, q):
+    """A Parting of p from q with the fewest records, None if p <= q."""
+    check_same_keys(p, q)
+    parts = parts_apart(p, q)
+    if len(parts) == 0:
+        return None
+    row = _row(p, q, parts)
+    return Parting(_run_of_two(p, parts, row) if len(parts) == 1 else _run_of_four(p, parts, row), parts)
+
+
+def is_parting(p, q, thing):
+    """Whether a thing is a Parting by a RUN of p, of few records, whose out never comes out of q."""
+    check_same_keys(p, q)
+    if not isinstance(thing, Parting) or not is_run(p, thing.run) or len(thing) > _MOST:
+        return False
+    return numbers_of(thing.out) not in all_outs(q, thing.row)
+
+
+def parted_on(p, q, row):
+    """A Parting by this row with the least order that comes out of p and not of q, None if there is none."""
+    check_same_keys(p, q)
+    barred = all_outs(q, row)
+    for order in all_outs(p, row):
+        if order not in barred:
+            return Parting(run_to_order(p, row, order), ())
+    return None
+
+
+def _row(p, q, parts):
+    # x and u, or x, y, z and u: they go apart in the first PART by i, in the second one by j.
+    corners = ((0, 0), (1, 0)) if len(parts) == 1 else ((0, 0), (0, 1), (1, 1), (1, 0))
+    periods = _periods(p, q)
+    one = _shifts(p.schema, parts[0], periods, 1)
+    # Where a name tells both, the factor keeps the four apart.
+    other = _shifts(p.schema, parts[-1], periods, 2)
+    row = []
+    for i, j in corners:
+        worths = [i * one[name] + j * other[name] for name in all_names(p.schema)]
+        row.append((worths[0], tuple(worths[1:])))
+    return tuple(row)
+
+
+def _periods(p, q):
+    # For each name a number by which values can differ so that only whole values tell them apart.
+    periods = {}
+    for name in all_names(p.schema):
+        period = 1
+        for stage in p.stages + q.stages:
+            period = lcm(period, stage[name]) if stage[name] > 1 else period
+        periods[name] = period
+    return periods
+
+
+def _shifts(keys, part, periods, factor):
+    # For each name by how much a value changes where nothing but the PART and what tells its name is to change.
+    target, power = field_of(part)
+    shifts = {}
+    for name, period in periods.items():
+        shifts[name] = factor * period if keys.tells(name, target) else 0
+    shifts[target] = _step(periods[target], power)
+    return shifts
+
+
+def _step(period, power):
+    # The least change that a power of a prime tells, and no lower power, no other prime; any change where it is 0.
+    if power == 0:
+        return period
+    prime = least_factor(power, 2, power)
+    rest = period
+    while rest % prime == 0:
+        rest = rest // prime
+    return rest * (power // prime)
+
+
+def _run_of_two(p, parts, row):
+    first, _ = p.span(parts[0])
+    return [row if at <= first else row[::-1] for at in range(len(p) + 1)]
+
+
+def _run_of_four(p, parts, row):
+    x, y, z, u = row
+    one, other = parts
+    both = [place for place, stage in enumerate(p.stages) if one in stage and other in stage]
+    if len(both) > 0:
+        early, late = both[0], both[0]
+    else:
+        early, late = p.span(other)[0], p.span(one)[1]
+    rows = []
+    for at in range(len(p) + 1):
+        if at <= early:
+            rows.append(row)
+        elif at <= late:
+            rows.append((y, x, z, u))
+        else:
+            rows.append((y, z, u, x))
+    return rows
