@@ -138,18 +138,14 @@ def _run_of_two(p, parts, row):
 
 
 def _run_of_four(p, parts, row):
+    # x and y go apart where the second PART comes first, x and the others where the first PART comes last.
     x, y, z, u = row
-    one, other = parts
-    both = [place for place, stage in enumerate(p.stages) if one in stage and other in stage]
-    if len(both) > 0:
-        early, late = both[0], both[0]
-    else:
-        early, late = p.span(other)[0], p.span(one)[1]
+    first, last = p.span(parts[1])[0], p.span(parts[0])[1]
     rows = []
     for at in range(len(p) + 1):
-        if at <= early:
+        if at <= first:
             rows.append(row)
-        elif at <= late:
+        elif at <= last:
             rows.append((y, x, z, u))
         else:
             rows.append((y, z, u, x))

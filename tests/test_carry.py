@@ -105,7 +105,8 @@ class RunsTest(unittest.TestCase):
                 ((row, row, (TWO, ONE, THREE)), (2, (1, 2))), ((row, row, (THREE, TWO, ONE), ()), (2, (1, 2))),
                 ((row, (ONE, TWO), row), (1, ())), ((row, row, (TWO, ONE)), (2, ())), ((row, row, (TWO, ONE, (3, (5, 2)))), (2, ())),
                 ((row, (TWO, THREE, ONE), (TWO, THREE, ONE), row), (1, (1, 3))), ((row, row, row, ()), (3, ())),
-                (((), (ONE,), ()), (1, ())), (((), (), ()), None), (((), ()), (2, ()))):
+                (((), (ONE,), ()), (1, ())), ((row, (ONE,), (ONE,)), (1, ())), ((row, row, (TWO, ONE), row), (2, ())),
+                (((), (), ()), None), (((), ()), (2, ()))):
             with self.subTest(rows):
                 self.assertEqual(why_no_run(p, rows), why)
         self.assertEqual(why_no_run(EMPTY, ()), (0, ()))

@@ -238,6 +238,16 @@ class SignsTest(unittest.TestCase):
             self.assertIs(thing == p, False)
             self.assertIs(Pipeline(KEYS) == thing, False)
 
+    def test_signs_beside_other_things(self):
+        p = Pipeline.of(KEYS, "user")
+        for thing in (None, 1, "user", ("user",), [p], KEYS):
+            for sign in (operator.le, operator.lt, operator.rshift):
+                with self.assertRaises(TypeError):
+                    sign(p, thing)
+        for sign in (operator.le, operator.lt):
+            with self.assertRaises(TypeError):
+                sign(p, p[0])
+
     def test_not_iterated_over(self):
         with self.assertRaises(TypeError):
             list(Pipeline.of(KEYS, "user"))
