@@ -12,12 +12,12 @@ def is_run(p, thing):
     """Whether a thing is a RUN of p."""
     if not isinstance(thing, tuple) or not all([is_row(p.schema, row) for row in thing]):
         return False
-    return _first_fault(p, thing) is None
+    return first_fault(p, thing, passes) is None
 
 
 def why_no_run(p, rows):
     """The place at which rows are no RUN of p, and the first pair exchanged there; None for a RUN."""
-    place = _first_fault(p, rows)
+    place = first_fault(p, rows, passes)
     if place is None:
         return None
     if place > len(p) or place == len(rows) or not _same_records(rows[place - 1], rows[place]):
@@ -78,7 +78,7 @@ def together(p, part, runs, row, out):
     if p.span(part) != (0, len(p) - 1):
         raise NotWithin()
     for place, run in enumerate(runs):
-        if _first_fault(p, run) is not None:
+        if first_fault(p, run, passes) is not None:
             raise BadRun(place)
     made = [row]
     for at in range(1, len(p)):
@@ -86,18 +86,21 @@ def together(p, part, runs, row, out):
     return tupled([*made, out])
 
 
-def _first_fault(p, rows):
-    # The least place at which a row is missing, is one too many or does not come from the one ahead; None for a RUN.
+def first_fault(p, rows, follows):
+    """The least place at which a row is missing, is one too many or does not follow the one ahead; None if none does.
+
+    follows tells of a Stage and two rows whether the second one can be behind the Stage.
+    """
     for place in range(len(p) + 1):
         if place == len(rows):
             return place
-        if place > 0 and not passes(p[place - 1], rows[place - 1], rows[place]):
+        if place > 0 and not follows(p[place - 1], rows[place - 1], rows[place]):
             return place
     return len(p) + 1 if len(rows) > len(p) + 1 else None
 
 
 def _checked(p, run):
-    place = _first_fault(p, run)
+    place = first_fault(p, run, passes)
     if place is not None:
         raise BadRun(place)
     return tupled(run)

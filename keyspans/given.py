@@ -3,6 +3,7 @@
 from keyspans.carry import carried
 from keyspans.errors import Doubled, NoRecord, TooManyLevels
 from keyspans.lanes import passes
+from keyspans.rings import shortest_ring
 from keyspans.stages import Stage
 from keyspans.values import is_int, numbers_of, tupled
 
@@ -67,6 +68,15 @@ def reached(p, row):
 def all_outs(p, row):
     """All orders in which the records can come out of p."""
     return reached(p, row)[-1]
+
+
+def lets_out(plain, row, out):
+    """Whether a plain form lets out come from row; these have the same records."""
+    order = numbers_of(out)
+    if len(plain) > 2:
+        return order in all_outs(plain, row)
+    first, second = _steps(plain, row, order)
+    return _shortest_ring(first, second) is None
 
 
 def run_to_order(p, row, order):
@@ -149,33 +159,11 @@ def _steps_behind(stage, row, many):
 
 
 def _shortest_ring(first, second):
-    # Of the shortest rings from each number a shortest one: no number stands in it twice, as steps of one lane join.
+    # Of the shortest rings one: no number stands in it twice, as two steps in one lane join to one.
     leaps = {}
     for number, middles in first.items():
-        leaps[number] = [(middle, end) for middle in middles for end in second[middle]]
-    best = None
-    for number in leaps:
-        ring = _ring_from(number, leaps)
-        if ring is not None and (best is None or len(ring) < len(best)):
-            best = ring
-    return best
-
-
-def _ring_from(start, leaps):
-    # The shortest way back, by leaps of two steps; None if there is none.
-    ways = {start: (start,)}
-    level = [start]
-    while len(level) > 0:
-        ends = []
-        for number in level:
-            for middle, end in leaps[number]:
-                if end == start:
-                    return ways[number] + (middle,)
-                if end not in ways:
-                    ways[end] = ways[number] + (middle, end)
-                    ends.append(end)
-        level = ends
-    return None
+        leaps[number] = [((middle,), end) for middle in middles for end in second[middle]]
+    return shortest_ring(leaps)
 
 
 def _is_round(row, thing):

@@ -1,9 +1,8 @@
 """Keys: the names of the values of records, which name tells which, and FIELDs."""
 
 from keyspans.errors import BadField, BadLine, NoName, Ringed
+from keyspans.numerals import is_numeral, number_of, written
 from keyspans.primes import is_prime_power, prime_powers
-
-_DIGITS = "0123456789"
 
 
 def is_name(thing):
@@ -20,7 +19,7 @@ def is_field(thing):
     name, slash, digits = thing.partition("/")
     if name != "#" and not is_name(name):
         return False
-    return slash == "" or _is_modulus(digits)
+    return slash == "" or (is_numeral(digits) and digits not in ("0", "1"))
 
 
 def is_part(thing):
@@ -36,14 +35,14 @@ def field_of(text):
     if not is_field(text):
         raise BadField(text)
     name, _, digits = text.partition("/")
-    return name, _number_of(digits)
+    return name, number_of(digits)
 
 
 def field_text(name, m):
     """The FIELD of a name and a number, 0 for the whole value."""
     if m == 0:
         return name
-    return f"{name}/{_digits_of(m)}"
+    return f"{name}/{written(m)}"
 
 
 def parts_of(text):
@@ -155,27 +154,3 @@ def _all_told(names, tells):
             if middle in told[name]:
                 told[name] = told[name] + [other for other in told[middle] if other not in told[name]]
     return {name: tuple([other for other in names if other in told[name]]) for name in names}
-
-
-def _is_modulus(digits):
-    # int() would take signs and underscores, too, and does not take texts of some thousand digits.
-    if digits in ("", "1") or digits.startswith("0"):
-        return False
-    return all([digit in _DIGITS for digit in digits])
-
-
-def _number_of(digits):
-    # Digit by digit, because int() does not take texts of some thousand digits.
-    number = 0
-    for digit in digits:
-        number = number * 10 + int(digit)
-    return number
-
-
-def _digits_of(number):
-    # Piece by piece, because str() does not take numbers of some thousand digits.
-    digits = ""
-    while number > 0:
-        number, piece = divmod(number, 10 ** 60)
-        digits = str(piece).zfill(60) + digits
-    return digits.lstrip("0")

@@ -3,10 +3,10 @@
 from math import lcm
 
 from keyspans.carry import is_run
+from keyspans.corners import corner_row
 from keyspans.errors import NoPart
 from keyspans.given import all_outs, run_to_order
-from keyspans.keys import all_names, field_of
-from keyspans.primes import least_factor
+from keyspans.keys import all_names
 from keyspans.spans import parts_apart, span_in
 from keyspans.stages import check_same_keys
 from keyspans.values import numbers_of, tupled
@@ -64,7 +64,7 @@ def parting(p, q):
     parts = parts_apart(p, q)
     if len(parts) == 0:
         return None
-    row = _row(p, q, parts)
+    row = corner_row(p.schema, _periods(p, q), parts)
     return Parting(_run_of_two(p, parts, row) if len(parts) == 1 else _run_of_four(p, parts, row), parts)
 
 
@@ -86,20 +86,6 @@ def parted_on(p, q, row):
     return None
 
 
-def _row(p, q, parts):
-    # x and u, or x, y, z and u: they go apart in the first PART by i, in the second one by j.
-    corners = ((0, 0), (1, 0)) if len(parts) == 1 else ((0, 0), (0, 1), (1, 1), (1, 0))
-    periods = _periods(p, q)
-    one = _shifts(p.schema, parts[0], periods, 1)
-    # Where a name tells both, the factor keeps the four apart.
-    other = _shifts(p.schema, parts[-1], periods, 2)
-    row = []
-    for i, j in corners:
-        worths = [i * one[name] + j * other[name] for name in all_names(p.schema)]
-        row.append((worths[0], tuple(worths[1:])))
-    return tuple(row)
-
-
 def _periods(p, q):
     # For each name a number by which values can differ so that only whole values tell them apart.
     periods = {}
@@ -109,27 +95,6 @@ def _periods(p, q):
             period = lcm(period, stage[name]) if stage[name] > 1 else period
         periods[name] = period
     return periods
-
-
-def _shifts(keys, part, periods, factor):
-    # For each name by how much a value changes where nothing but the PART and what tells its name is to change.
-    target, power = field_of(part)
-    shifts = {}
-    for name, period in periods.items():
-        shifts[name] = factor * period if keys.tells(name, target) else 0
-    shifts[target] = _step(periods[target], power)
-    return shifts
-
-
-def _step(period, power):
-    # The least change that a power of a prime tells, and no lower power, no other prime; any change where it is 0.
-    if power == 0:
-        return period
-    prime = least_factor(power, 2, power)
-    rest = period
-    while rest % prime == 0:
-        rest = rest // prime
-    return rest * (power // prime)
 
 
 def _run_of_two(p, parts, row):

@@ -3,7 +3,8 @@
 from keyspans.errors import BadField, BadTurns, MixedKeys, NoName, NoPlace
 from keyspans.keys import all_names, field_of, is_part
 from keyspans.lanes import pour
-from keyspans.spans import filled_stages, is_ahead, parts_apart, span_in, spans_in, without_needless
+from keyspans.spans import (
+    bits_of, fields_by_levels, filled_stages, is_ahead, parts_apart, span_in, spans_in, without_needless)
 from keyspans.stages import Stage, check_same_keys
 from keyspans.values import tupled
 
@@ -129,7 +130,9 @@ def built(keys, names, pairs):
             raise NoName(name)
     names = tuple(names)
     pairs = tuple([(one, other) for one, other in pairs])
-    made = Pipeline(keys, _levels(names, pairs)).plain
+    bits = bits_of(names)
+    before = {name: sum([bits[one] for one in names if (one, name) in pairs]) for name in names}
+    made = Pipeline(keys, fields_by_levels(bits, before)).plain
     if made.parts != names:
         return None
     for one in names:
@@ -169,14 +172,3 @@ def _poured_at(place, stage, row, turns):
     except BadTurns:
         # The place in the turns of the whole is told, not the one in these TURNS.
         raise BadTurns(place) from None
-
-
-def _levels(names, pairs):
-    # For each set of names that stand ahead of one, from the smallest on, what can stand behind it and is not in it.
-    before = {name: tuple([one for one in names if (one, name) in pairs]) for name in names}
-    levels = sorted(set([(len(ahead), ahead) for ahead in before.values()]))
-    stages = []
-    for _, level in levels:
-        fields = [name for name in names if name not in level and all([one in level for one in before[name]])]
-        stages.append(fields)
-    return stages

@@ -5,6 +5,17 @@ from keyspans.primes import prime_powers
 from keyspans.stages import Stage
 
 
+def parts_in(keys, stages):
+    """The set of the PARTs that the numbers of the stages bring."""
+    parts = []
+    for name in all_names(keys):
+        numbers = sorted(set([stage[name] for stage in stages]))
+        if 0 in numbers:
+            parts.append(name)
+        parts.extend([field_text(name, power) for power in prime_powers([m for m in numbers if m > 1])])
+    return tuple(sorted(set(parts)))
+
+
 def span_in(stages, part):
     """The first and the last place whose Stage has the PART, None if there is none."""
     places = [place for place, stage in enumerate(stages) if part in stage]
@@ -13,7 +24,7 @@ def span_in(stages, part):
 
 def spans_in(keys, stages):
     """For each PART that the numbers of the stages bring, in ascending order, its span."""
-    return {part: span_in(stages, part) for part in _parts_in(keys, stages)}
+    return {part: span_in(stages, part) for part in parts_in(keys, stages)}
 
 
 def is_ahead(one, other):
@@ -60,11 +71,24 @@ def parts_apart(p, q):
     return ()
 
 
-def _parts_in(keys, stages):
-    parts = []
-    for name in all_names(keys):
-        numbers = sorted(set([stage[name] for stage in stages]))
-        if 0 in numbers:
-            parts.append(name)
-        parts.extend([field_text(name, power) for power in prime_powers([m for m in numbers if m > 1])])
-    return tuple(sorted(set(parts)))
+def bits_of(parts):
+    """For each PART a number of its own, such that each set of PARTs has a sum of its own: 1, 2, 4 and so on."""
+    bits = {}
+    bit = 1
+    for part in parts:
+        bits[part] = bit
+        bit = bit * 2
+    return bits
+
+
+def fields_by_levels(bits, before):
+    """The PARTs of each stage of a Pipeline in which these sets are ahead of the PARTs; sets are sums of bits.
+
+    For each of these sets, from the least on, those that can stand behind it and are not in it. The sets must lie
+    within one another: then the less of two is the one with the smaller sum.
+    """
+    stages = []
+    for level in sorted(set(list(before.values()))):
+        behind = [part for part in bits if before[part] & level == before[part]]
+        stages.append([part for part in behind if level & bits[part] == 0])
+    return stages

@@ -78,13 +78,13 @@ class Stage:
         if not isinstance(other, Stage):
             return NotImplemented
         check_same_keys(self, other)
-        return _numbered(self._schema, [(name, lcm(m, other[name])) for name, m in self._numbers.items()])
+        return stage_of_numbers(self._schema, [(name, lcm(m, other[name])) for name, m in self._numbers.items()])
 
     def __and__(self, other):
         if not isinstance(other, Stage):
             return NotImplemented
         check_same_keys(self, other)
-        return _numbered(self._schema, [(name, gcd(m, other[name])) for name, m in self._numbers.items()])
+        return stage_of_numbers(self._schema, [(name, gcd(m, other[name])) for name, m in self._numbers.items()])
 
     def __xor__(self, other):
         if not isinstance(other, Stage):
@@ -123,13 +123,13 @@ def _closed(keys, numbers):
     return {name: 0 if name in told else m for name, m in numbers.items()}
 
 
-def _numbered(keys, pairs):
-    # The Stage with these numbers, in pairs with their names.
-    return Stage(keys, [field_text(name, m) for name, m in pairs if m != 1])
-
-
 def _divides(m, number):
     return number == 0 or (m != 0 and number % m == 0)
+
+
+def stage_of_numbers(keys, pairs):
+    """The Stage with these numbers, in pairs with their names."""
+    return Stage(keys, [field_text(name, m) for name, m in pairs if m != 1])
 
 
 def check_same_keys(one, other):
