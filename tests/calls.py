@@ -2,8 +2,12 @@
 
 import copy
 
+from keyspans.board import Board
+from keyspans.logs import Logs
 from keyspans.partings import Parting
 from keyspans.pipelines import Pipeline
+from keyspans.promises import Line
+from keyspans.stages import Stage
 
 
 def with_lists(thing, depth=99):
@@ -26,9 +30,13 @@ def kinds(thing):
 
 
 def shown(result):
-    """A result with what == does not look at: the texts of Pipelines."""
-    if isinstance(result, Pipeline):
-        return "Pipeline", result.text
+    """A result with what == does not look at: the texts of Pipelines, the order of LOGs."""
+    if isinstance(result, (Pipeline, Line, Stage)):
+        return type(result), result.text
+    if isinstance(result, Logs):
+        return "Logs", [result[k] for k in range(len(result))], kinds([result[k] for k in range(len(result))])
+    if isinstance(result, Board):
+        return "Board", result.order, result.limits, result.pipeline.text, result.logs, kinds(result.logs)
     if isinstance(result, Parting):
         return "Parting", result.run, result.parts, kinds(result.run)
     if isinstance(result, (list, tuple)):

@@ -75,10 +75,13 @@ def plain_outs(keys, stage, row):
 
 def things():
     """Values of all kinds that are neither FIELD, PART, ROW, RUN nor ring, and no Parting, for Keys of three names."""
+    from keyspans.board import Board
     from keyspans.errors import MixedKeys, NoName
     from keyspans.keys import Keys
+    from keyspans.logs import Logs
     from keyspans.partings import Parting
     from keyspans.pipelines import Pipeline
+    from keyspans.promises import Line, Promise, Restorer
     from keyspans.stages import Stage
     keys = Keys(("a", "b", "c"))
     deep = 7
@@ -90,6 +93,8 @@ def things():
         ((1, 2),), ((1, (2, 3)), 4), {}.get("x"), deep, ([],), ((1, (0, 0, 0)), []), ((1, (0, 0, 0)), None),
         keys, Stage(keys, ("a",)), (keys,), (Stage(keys, ()),), [keys], NoName("a"), (MixedKeys(),),
         Pipeline(keys), (Pipeline(keys, (("a",),)),), (Parting(((),), ()),), [[((1, (0, 0, 0)),)], [((1, (0, 0, 0)),)]],
+        Promise(Stage(keys, ("a",))), (Restorer(Stage(keys, ())),), Line(keys, ()), (Line(keys, ()),), Logs(keys), [Logs(keys)],
+        Board(keys), (Board(keys), Board(keys), Board(keys)),
     ]
 
 

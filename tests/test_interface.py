@@ -30,6 +30,27 @@ FUNCTIONS = {
         "may_come": "(p, row, front)", "why_never": "(p, row, front)", "is_ring": "(p, row, front, thing)",
         "next_numbers": "(p, row, front)", "reached": "(p, row)", "all_outs": "(p, row)",
     },
+    "promises": {
+        "places_of": "(pipeline, row, number)", "run_to": "(pipeline, row, number, place)", "mends": "(line, promise)"},
+    "edits": {
+        "edited": "(pipeline, edit)", "effect": "(pipeline, edit)", "needless_stages": "(pipeline)", "swaps": "(pipeline)",
+        "joints": "(pipeline)", "lean": "(pipeline)", "twice": "(pipeline, part)", "forms": "(keys)", "how_many_forms": "(count)",
+    },
+    "above": {
+        "kept_by_all": "(pipelines)", "least_above": "(pipelines)", "must_ahead": "(services, targets)",
+        "arrange": "(services, targets, *, wishes=())", "orders": "(services, targets, *, wishes=())",
+        "how_many_orders": "(services, targets, *, wishes=())", "any_order": "(services, targets)",
+    },
+    "readers": {
+        "seen": "(reader, row)", "same_for": "(p, q, reader, *, source=None)", "hiding_stage": "(p, q)",
+        "hiding_source": "(p, q)", "may_show": "(p, row, reader, view)", "is_lossy": "(p, thing)", "late_losses": "(p, run)",
+    },
+    "logs": {
+        "question": "(keys, label)", "learned": "(keys, names, labels)", "why_no_form": "(keys, names, labels)",
+        "best_question": "(keys, names, forms)", "sample": "(p, parts)",
+    },
+    "texts": {"row_text": "(row)", "row_in": "(keys, text)", "board_text": "(board)", "board_in": "(keys, text)"},
+    "desk": {"answers": "(text)"},
 }
 CLASSES = {
     ("keys", "Keys"): {
@@ -59,6 +80,41 @@ CLASSES = {
         "methods": {"cut": "(self, q)"},
         "properties": ("run", "parts", "row", "out"),
         "signs": ("__init__", "__len__", "__eq__"),
+    },
+    ("promises", "Promise"): {
+        "made": "(stage)",
+        "methods": {"broken": "(self, pipeline)", "least": "(pipeline)", "__call__": "(self, pipeline)"},
+        "properties": ("stage",),
+        "signs": ("__init__", "__call__", "__le__", "__lt__", "__eq__", "__and__"),
+    },
+    ("promises", "Restorer"): {
+        "made": "(stage)",
+        "methods": {"__call__": "(self, row, turns)"},
+        "properties": ("stage",),
+        "signs": ("__init__", "__call__", "__eq__"),
+    },
+    ("promises", "Line"): {
+        "made": "(keys, items)",
+        "methods": {"put": "(self, place, stage)", "of": "(keys, text)", "__call__": "(self, row, turns)"},
+        "properties": ("schema", "steps", "text", "last", "pipeline"),
+        "signs": ("__init__", "__call__", "__len__", "__le__", "__eq__"),
+    },
+    ("logs", "Logs"): {
+        "made": "(keys, logs=())",
+        "methods": {
+            "turned": "(self, k)", "misfit": "(self, p)", "least_forms": "(self, names)", "sure": "(self, names)",
+            "sent": "(p, pairs)"},
+        "properties": ("schema",),
+        "signs": ("__init__", "__len__", "__getitem__", "__contains__", "__add__", "__eq__"),
+    },
+    ("board", "Board"): {
+        "made": "(keys)",
+        "methods": {
+            "leave": "(self, name)", "move": "(self, name, place)", "reorder": "(self, names)", "arrange": "(self)",
+            "limit": "(self, name, pipeline)", "lift": "(self, name)", "effect": "(self, name, fields)",
+            "send": "(self, row, turns)", "attempt": "(self, deeds)", "undo": "(self)", "twin": "(self)"},
+        "properties": ("schema", "pipeline", "order", "limits", "logs"),
+        "signs": ("__init__", "__getitem__", "__setitem__", "__iadd__", "__contains__", "__len__", "__eq__"),
     },
 }
 
@@ -99,7 +155,12 @@ class InterfaceTest(unittest.TestCase):
         stage = module("stages").Stage(keys, ("a",))
         pipeline = module("pipelines").Pipeline(keys, (stage,))
         parting = module("partings").Parting(((), ()), ())
-        for thing, listed in zip((keys, stage, pipeline, parting), CLASSES.values()):
+        promises = module("promises")
+        made = (
+            keys, stage, pipeline, parting, promises.Promise(stage), promises.Restorer(stage), promises.Line(keys, ()),
+            module("logs").Logs(keys), module("board").Board(keys))
+        self.assertEqual(len(made), len(CLASSES))
+        for thing, listed in zip(made, CLASSES.values()):
             for name in listed["properties"]:
                 with self.subTest(name):
                     held = getattr(thing, name)
@@ -112,8 +173,13 @@ class InterfaceTest(unittest.TestCase):
         self.assertIsInstance(vars(module("stages").Stage)["of"], staticmethod)
         self.assertIsInstance(vars(module("pipelines").Pipeline)["of"], staticmethod)
 
-    def test_outs_is_a_generator(self):
+        self.assertIsInstance(vars(module("promises").Promise)["least"], staticmethod)
+        self.assertIsInstance(vars(module("promises").Line)["of"], staticmethod)
+        self.assertIsInstance(vars(module("logs").Logs)["sent"], staticmethod)
+
+    def test_outs_and_orders_are_generators(self):
         self.assertTrue(inspect.isgeneratorfunction(module("lanes").outs))
+        self.assertTrue(inspect.isgeneratorfunction(module("above").orders))
 
 
 if __name__ == "__main__":
