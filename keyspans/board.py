@@ -5,7 +5,7 @@ from keyspans.edits import word_of_change
 from keyspans.errors import (
     BadField, BadOrder, BadTurns, MixedKeys, NoLimit, NoName, NoPlace, NoService, Outside, Stopped, Taken)
 from keyspans.pipelines import Pipeline
-from keyspans.stages import Stage, check_same_keys
+from keyspans.stages import Stage
 from keyspans.values import tupled
 
 
@@ -78,7 +78,6 @@ class Board:
 
     def limit(self, name, pipeline):
         """The services are within this Pipeline from now on."""
-        check_same_keys(self, pipeline)
         if not self.pipeline <= pipeline:
             raise Outside(name)
         others = [own for own in self._limits if own[0] != name]

@@ -45,9 +45,9 @@ def _request_in(keys, line):
     if word == "order":
         return (word, rest) if all([is_name(name) for name in rest]) else None
     if word == "within":
-        return _complete(word, pipeline_in(keys, " ".join(rest)))
+        return _complete((word, pipeline_in(keys, " ".join(rest))))
     if word == "keeps":
-        return _complete(word, stage_in(keys, " ".join(rest)))
+        return _complete((word, stage_in(keys, " ".join(rest))))
     if len(rest) == 0 or not is_name(rest[0]):
         return None
     return _request_of_name(keys, word, rest[0], " ".join(rest[1:]))
@@ -59,13 +59,13 @@ def _request_of_name(keys, word, name, text):
     if word == "move":
         return (word, name, number_of(text)) if is_numeral(text) else None
     if word == "limit":
-        return _complete(word, name, pipeline_in(keys, text))
+        return _complete((word, name, pipeline_in(keys, text)))
     if word in ("put", "effect"):
-        return _complete(word, name, stage_in(keys, text))
+        return _complete((word, name, stage_in(keys, text)))
     return None
 
 
-def _complete(*request):
+def _complete(request):
     # A request, None if what it asks with could not be read.
     return None if request[-1] is None else request
 

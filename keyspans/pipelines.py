@@ -131,7 +131,7 @@ def built(keys, names, pairs):
     names = tuple(names)
     pairs = tuple([(one, other) for one, other in pairs])
     bits = bits_of(names)
-    before = {name: sum([bits[one] for one in names if (one, name) in pairs]) for name in names}
+    before = {name: sum([bits[ahead] for ahead in names if (ahead, name) in pairs]) for name in names}
     made = Pipeline(keys, fields_by_levels(bits, before)).plain
     if made.parts != names:
         return None

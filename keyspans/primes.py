@@ -11,6 +11,9 @@ _GREATEST = 1000000
 # Walks that have not met by then go around a prime beyond that bound.
 _STRIDES = 10000
 
+# So many strides are looked at together: to look at each one takes longer than to go it.
+_AT_ONCE = 50
+
 
 def least_factor(m, least, greatest):
     """The least factor of m from least to greatest; m itself if there is none, or only m itself divides it."""
@@ -80,11 +83,31 @@ def _met(m, shift):
     # Two walk by x * x + shift, one twice as fast; they meet modulo a factor of m sooner than modulo m (Pollard's rho).
     slow = 2
     fast = 2
-    for _ in range(_STRIDES):
-        slow = (slow * slow + shift) % m
-        fast = (fast * fast + shift) % m
-        fast = (fast * fast + shift) % m
+    for _ in range(_STRIDES // _AT_ONCE):
+        starts = (slow, fast)
+        product = 1
+        for _ in range(_AT_ONCE):
+            slow, fast = _stride(m, shift, slow, fast)
+            product = product * (slow - fast) % m
+        factor = gcd(product, m)
+        if factor == m:
+            return _met_first(m, shift, starts)
+        if factor != 1:
+            return factor
+    return m
+
+
+def _met_first(m, shift, starts):
+    # Stride by stride, where all factors of m meet within few strides.
+    slow, fast = starts
+    for _ in range(_AT_ONCE):
+        slow, fast = _stride(m, shift, slow, fast)
         factor = gcd(slow - fast, m)
         if factor != 1:
             return factor
     return m
+
+
+def _stride(m, shift, slow, fast):
+    once = (fast * fast + shift) % m
+    return (slow * slow + shift) % m, (once * once + shift) % m

@@ -17,12 +17,7 @@ def seen(reader, row):
 
 def same_for(p, q, reader, *, source=None):
     """Whether a reader can be shown the same VIEWs by two Pipelines, for all ROWs."""
-    check_same_keys(p, q)
-    check_same_keys(p, reader)
-    ahead = Pipeline(p.schema)
-    if source is not None:
-        check_same_keys(p, source)
-        ahead = ahead >> source
+    ahead = Pipeline(p.schema, () if source is None else (source,))
     return ahead >> p >> reader == ahead >> q >> reader
 
 

@@ -52,6 +52,23 @@ def closed_sets(keys):
                 yield names
 
 
+def partial_orders(names):
+    """All sets of pairs in which none is ahead of itself, and what is ahead of a second one is ahead of what this is."""
+    found = [frozenset()]
+    for name in names:
+        others = [own for own in names if own < name]
+        wider = []
+        for order in found:
+            for below in (frozenset(own) for many in range(len(others) + 1) for own in combinations(others, many)):
+                for above in (frozenset(own) for many in range(len(others) + 1) for own in combinations(others, many)):
+                    more = order | {(own, name) for own in below} | {(name, own) for own in above}
+                    if all(one != other for one, other in more) and all(
+                            (f, i) in more for f, g in more for h, i in more if g == h):
+                        wider.append(more)
+        found = wider
+    return found
+
+
 def forms_of(keys, names):
     return [form for form in forms(keys) if set(form.parts) <= set(names)]
 
@@ -313,6 +330,23 @@ class LearnedTest(unittest.TestCase):
                 turned = chosen.sample(labels, chosen.choice((0, 1, 1, 2, 3, 9)) % len(labels))
                 start = chosen.choice(near)
                 self.check(keys, names, tuple(label for label in labels if (label in start) != (label in turned)), by_answers)
+
+    def test_all_orders_of_four_names(self):
+        """What is ahead of what is any partial order; it is that of a form unless two pairs stand apart from one another."""
+        names = ("a", "b", "c", "d")
+        self.assertEqual(len(partial_orders(names)), 219)
+        for tells in ((), (("a", "b"),)):
+            keys = Keys(names, tells)
+            labels, by_answers = plain_labels(keys, names), self.answers(keys, names)
+            barred = 0
+            for own in partial_orders(names):
+                answers = tuple(label for label in labels if label not in own)
+                self.check(keys, names, answers, by_answers)
+                barred += answers not in by_answers
+            # Two pairs can stand apart in twelve ways.
+            self.assertTrue(barred == 12 or tells)
+        apart = tuple(pair for pair in plain_labels(Keys(names), names) if pair not in (("a", "b"), ("c", "d")))
+        self.assertEqual(why_no_form(Keys(names), names, apart), (("a", "b"), ("a", "d"), ("c", "b"), ("c", "d")))
 
     def test_five_names(self):
         keys = Keys(("a", "b", "c", "d", "e"), (("e", "d"),))
