@@ -1,14 +1,24 @@
 """Corners: records that go apart in one PART or in two, and in nothing else but what brings these along."""
 
+from math import lcm
+
 from keyspans.keys import all_names, field_of
 from keyspans.primes import least_factor
+
+
+def period_of(numbers):
+    """By how much values can differ so that, of these numbers of a name, only 0 tells them apart."""
+    period = 1
+    for m in numbers:
+        period = lcm(period, m) if m > 1 else period
+    return period
 
 
 def corner_row(keys, periods, parts):
     """For one PART two records that differ in it; for two PARTs four records x, y, z, u.
 
     x and y are alike in the first PART, z and u too; y and z are alike in the second one, u and x too. periods holds
-    for each name a number by which values can differ so that only whole values tell them apart.
+    for each name the period of its numbers.
     """
     corners = ((0, 0), (1, 0)) if len(parts) == 1 else ((0, 0), (0, 1), (1, 1), (1, 0))
     one = _shifts(keys, parts[0], periods, 1)

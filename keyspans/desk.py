@@ -7,7 +7,6 @@ from keyspans.numerals import is_numeral, number_of
 from keyspans.promises import Promise
 from keyspans.texts import pipeline_in, stage_in
 
-
 # Requests of a single word.
 _ALONE = ("arrange", "line", "plain", "undo")
 

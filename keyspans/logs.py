@@ -1,8 +1,6 @@
 """Logs: what rows that went in and came out tell of the Pipeline between, and which of them tell the most."""
 
-from math import lcm
-
-from keyspans.corners import corner_row
+from keyspans.corners import corner_row, period_of
 from keyspans.errors import BadLog, MissingPart, MixedKeys, NoFit, NoForm, NoName, NoPlace
 from keyspans.forms import forms_over
 from keyspans.given import lets_out
@@ -147,7 +145,7 @@ def sample(p, parts):
     for part in p.parts:
         if part not in parts:
             raise MissingPart(part)
-    periods = {name: _period([m for other, m in numbers if other == name]) for name in names}
+    periods = {name: period_of([m for other, m in numbers if other == name]) for name in names}
     logs = []
     for label in _sample_labels(p):
         row = corner_row(p.schema, periods, label)
@@ -196,13 +194,6 @@ def _fits(spans, label):
     # Whether a form with these spans of its names fits the question of a LABEL.
     one, other = spans[label[0]], spans[label[-1]]
     return one is not None and other is not None and not is_ahead(one, other)
-
-
-def _period(numbers):
-    period = 1
-    for m in numbers:
-        period = lcm(period, m) if m > 1 else period
-    return period
 
 
 def _sample_labels(p):

@@ -1,9 +1,7 @@
 """Partings: rows that show that one Pipeline lets out what another one does not."""
 
-from math import lcm
-
 from keyspans.carry import is_run
-from keyspans.corners import corner_row
+from keyspans.corners import corner_row, period_of
 from keyspans.errors import NoPart
 from keyspans.given import all_outs, run_to_order
 from keyspans.keys import all_names
@@ -87,14 +85,7 @@ def parted_on(p, q, row):
 
 
 def _periods(p, q):
-    # For each name a number by which values can differ so that only whole values tell them apart.
-    periods = {}
-    for name in all_names(p.schema):
-        period = 1
-        for stage in p.stages + q.stages:
-            period = lcm(period, stage[name]) if stage[name] > 1 else period
-        periods[name] = period
-    return periods
+    return {name: period_of([stage[name] for stage in p.stages + q.stages]) for name in all_names(p.schema)}
 
 
 def _run_of_two(p, parts, row):
